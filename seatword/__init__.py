@@ -1,0 +1,1 @@
+"""Seatword: guests booked at tables."""
