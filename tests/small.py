@@ -1,0 +1,148 @@
+"""Small rooms and sheets, and what the document says of them, gone through anew without the program."""
+
+import itertools
+import random
+
+
+def stands_in(room):
+    """All (stand, places), in the order of point [11]."""
+    rows, lost = room
+    found = []
+    for at_row, row in enumerate(rows):
+        for first in range(len(row)):
+            for many in (1, 2, 3):
+                run = row[first:first + many]
+                places = sum(table[1] for table in run) - lost * (many - 1)
+                if len(run) == many and places > 0:
+                    found.append(((many, at_row, first), tuple(table[0] for table in run), places))
+    return [(stand, places) for order, stand, places in sorted(found)]
+
+
+def hours_of(begin, stay):
+    return set(range(begin, begin + stay))
+
+
+def open_to(room, sheet, name, stand):
+    """Point [14], clause by clause."""
+    hours, shuts, parties, seats = sheet
+    party = {row[0]: row for row in parties}
+    own = hours_of(party[name][2], party[name][3])
+    if dict(stands_in(room))[stand] < party[name][1]:
+        return False
+    if any(table in stand and hours_of(begin, stay) & own for table, begin, stay in shuts):
+        return False
+    for other, seat in seats:
+        if other != name and hours_of(party[other][2], party[other][3]) & own and set(seat) & set(stand):
+            return False
+    return dict(seats).get(name, stand) == stand
+
+
+def stands_open_to(room, sheet, name):
+    return [stand for stand, places in stands_in(room) if open_to(room, sheet, name, stand)]
+
+
+def clash(one, one_stand, other, other_stand):
+    return bool(hours_of(one[2], one[3]) & hours_of(other[2], other[3]) and set(one_stand) & set(other_stand))
+
+
+def dealings_of(room, sheet):
+    """Every dealing of the sheet."""
+    parties = sheet[2]
+    choices = [stands_open_to(room, sheet, party[0]) for party in parties]
+    for stands in itertools.product(*choices):
+        pairs = itertools.combinations(list(zip(parties, stands)), 2)
+        if not any(clash(*one, *other) for one, other in pairs):
+            yield tuple((party[0], stand) for party, stand in zip(parties, stands))
+
+
+def moves_in(sheet, old, dealing):
+    """How many parties without a seat have other stands in old than in the dealing."""
+    seated, before = dict(sheet[3]), dict(old)
+    return sum(name not in seated and before.get(name, stand) != stand for name, stand in dealing)
+
+
+def has_dealing(room, sheet, old, spare):
+    """Whether there is a dealing, for a spare one that moves no more."""
+    return any(spare is None or moves_in(sheet, old, dealing) <= spare for dealing in dealings_of(room, sheet))
+
+
+def seated(sheet, name, stand):
+    return sheet[:3] + (tuple(sorted(sheet[3] + ((name, stand),))),)
+
+
+def without_seat(sheet):
+    return [party[0] for party in sheet[2] if party[0] not in dict(sheet[3])]
+
+
+def case_paper(room, sheet, old, spare):
+    """A paper of cases and seats that goes through all there is, or None where a dealing is left."""
+    for name, stand in sheet[3]:
+        if not open_to(room, sheet, name, stand):
+            return ("seat", name)
+    waiting = without_seat(sheet)
+    if not waiting:
+        return None
+    name = waiting[0]
+    rows = []
+    for stand in stands_open_to(room, sheet, name):
+        moved = dict(old).get(name, stand) != stand
+        if spare == 0 and moved:
+            continue
+        left = spare - 1 if spare is not None and moved else spare
+        paper = case_paper(room, seated(sheet, name, stand), old, left)
+        if paper is None:
+            return None
+        rows.append((stand, paper))
+    return ("cases", name, tuple(rows))
+
+
+def subsets(names):
+    for many in range(len(names) + 1):
+        yield from itertools.combinations(sorted(names), many)
+
+
+def crowd_bars(room, sheet, hour, guests, tables):
+    """The crowd of point [17]; hour, guests and tables are of the right form."""
+    there = [party for party in sheet[2] if hour in hours_of(party[2], party[3])]
+    crowd = [party for party in there if party[0] not in dict(sheet[3]) and party[1] >= guests]
+    gone = {shut[0] for shut in sheet[1] if hour in hours_of(shut[1], shut[2])}
+    for party in there:
+        gone |= set(dict(sheet[3]).get(party[0], ()))
+    left = [set(stand) for stand, places in stands_in(room) if places >= guests and not gone & set(stand)]
+    return len(crowd) > len(tables) and all(stand & set(tables) for stand in left)
+
+
+def some_room(chance):
+    names = list("abcd")
+    chance.shuffle(names)
+    names = names[:chance.randint(1, 4)]
+    cut = chance.randint(1, len(names))
+    rows = [row for row in (names[:cut], names[cut:]) if row]
+    return (tuple(tuple((name, chance.randint(1, 5)) for name in row) for row in rows), chance.randint(0, 3))
+
+
+def some_span(chance, hours):
+    begin = chance.randrange(hours)
+    return begin, chance.randint(1, hours - begin)
+
+
+def some_seats(chance, room, names, share):
+    stands = [stand for stand, places in stands_in(room)]
+    return tuple((name, chance.choice(stands)) for name in sorted(names) if chance.random() < share)
+
+
+def some_sheet(chance, room):
+    hours = chance.randint(1, 3)
+    tables = [table[0] for row in room[0] for table in row]
+    shuts = tuple((chance.choice(tables),) + some_span(chance, hours) for step in range(chance.randint(0, 2)))
+    names = ["anna", "bob", "carl", "dora"][:chance.randint(1, 4)]
+    parties = tuple((name, chance.randint(1, 6)) + some_span(chance, hours) for name in names)
+    return (hours, shuts, parties, some_seats(chance, room, names, chance.choice((0, 0, 0.3))))
+
+
+def small_cases(many, seed):
+    """So many (room, sheet, old), the same ones each time."""
+    chance = random.Random(seed)
+    for step in range(many):
+        room = some_room(chance)
+        yield room, some_sheet(chance, room), some_seats(chance, room, ["aaa", "anna", "bob", "carl", "dora"], 0.6)
