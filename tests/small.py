@@ -131,18 +131,75 @@ def some_seats(chance, room, names, share):
     return tuple((name, chance.choice(stands)) for name in sorted(names) if chance.random() < share)
 
 
-def some_sheet(chance, room):
+def some_sheet(chance, room, most=6):
     hours = chance.randint(1, 3)
     tables = [table[0] for row in room[0] for table in row]
     shuts = tuple((chance.choice(tables),) + some_span(chance, hours) for step in range(chance.randint(0, 2)))
     names = ["anna", "bob", "carl", "dora"][:chance.randint(1, 4)]
-    parties = tuple((name, chance.randint(1, 6)) + some_span(chance, hours) for name in names)
+    parties = tuple((name, chance.randint(1, most)) + some_span(chance, hours) for name in names)
     return (hours, shuts, parties, some_seats(chance, room, names, chance.choice((0, 0, 0.3))))
 
 
-def small_cases(many, seed):
-    """So many (room, sheet, old), the same ones each time."""
+def small_cases(many, seed, most=6):
+    """So many (room, sheet, old), the same ones each time; parties of at most so many guests."""
     chance = random.Random(seed)
     for step in range(many):
         room = some_room(chance)
-        yield room, some_sheet(chance, room), some_seats(chance, room, ["aaa", "anna", "bob", "carl", "dora"], 0.6)
+        sheet = some_sheet(chance, room, most)
+        yield room, sheet, some_seats(chance, room, ["aaa", "anna", "bob", "carl", "dora"], 0.6)
+
+
+def has_crowd(room, sheet):
+    """Whether some crowd bars the sheet, of all hours, numbers of guests and sets of tables."""
+    tables = [table[0] for row in room[0] for table in row]
+    most = max([party[1] for party in sheet[2]], default=0)
+    for hour, guests in itertools.product(range(sheet[0]), range(1, most + 1)):
+        if any(crowd_bars(room, sheet, hour, guests, some) for some in subsets(tables)):
+            return True
+    return False
+
+
+def cases_bar(room, sheet, old, spare, name, rows):
+    """The cases of point [17], of a paper that is of the right form."""
+    if name not in without_seat(sheet):
+        return False
+    due = []
+    for stand in stands_open_to(room, sheet, name):
+        moved = dict(old).get(name, stand) != stand
+        if not (moved and spare == 0):
+            due.append((stand, spare - 1 if moved and spare is not None else spare))
+    if [row[0] for row in rows] != [stand for stand, left in due]:
+        return False
+    return all(paper_bars(room, seated(sheet, name, row[0]), old, left, row[1])
+               for row, (stand, left) in zip(rows, due))
+
+
+def moves_bar(room, sheet, old, spare, names):
+    """The moves of point [17], of a paper that is of the right form."""
+    due = [name for name in without_seat(sheet)
+           if name in dict(old) and not open_to(room, sheet, name, dict(old)[name])]
+    return spare is not None and len(names) > spare and list(names) == sorted(set(names)) and set(names) <= set(due)
+
+
+def paper_bars(room, sheet, old, spare, paper):
+    """Point [17] anew, of a paper that is of the right form."""
+    word = paper[0]
+    if word == "crowd":
+        return list(paper[3]) == sorted(set(paper[3])) and crowd_bars(room, sheet, *paper[1:])
+    if word == "seat":
+        return paper[1] in dict(sheet[3]) and not open_to(room, sheet, paper[1], dict(sheet[3])[paper[1]])
+    if word == "cases":
+        return cases_bar(room, sheet, old, spare, paper[1], paper[2])
+    return word == "moves" and moves_bar(room, sheet, old, spare, paper[1])
+
+
+def is_plain(thing):
+    """Whether it is made of tuples, whole numbers and texts alone."""
+    if type(thing) is tuple:
+        return all(is_plain(inner) for inner in thing)
+    return type(thing) in (int, str)
+
+
+def fewest_in(room, sheet, old):
+    """The fewest that any dealing moves, or None where there is none."""
+    return min((moves_in(sheet, old, dealing) for dealing in dealings_of(room, sheet)), default=None)

@@ -15,6 +15,11 @@ BARRED_NAMES = {"register", "mro", "elements", "open", "input", "version_info", 
 USABLE = set("""len range enumerate zip min max sum abs sorted reversed int str bool bytes list tuple dict set
     frozenset isinstance ord repr any all divmod super Exception ValueError TypeError KeyError IndexError LookupError
     ZeroDivisionError ArithmeticError OverflowError RuntimeError NotImplementedError""".split())
+BUILTIN_METHODS = set("""append clear copy count endswith extend find get index insert isalnum isalpha isdigit islower
+    isspace isupper items join keys ljust lower lstrip partition pop remove replace reverse rfind rjust rpartition rsplit
+    rstrip setdefault split splitlines startswith strip update upper values zfill bit_length add discard""".split())
+BARRED_ATTRIBUTES = set("""items keys values pop update append clear extend insert remove reverse setdefault sort args
+    encode decode hex fromhex format""".split())
 BARRED_NODES = (ast.Global, ast.AsyncFunctionDef, ast.AsyncFor, ast.AsyncWith, ast.Await, ast.Div)
 
 
@@ -94,6 +99,30 @@ class Language(unittest.TestCase):
                 if isinstance(node, ast.Constant):
                     self.assertNotIsInstance(node.value, float, name)
                     self.assertFalse(isinstance(node.value, str) and "%" in node.value, name)
+
+    def test_methods_and_attributes(self):
+        methods, attributes, called = set(), set(), set()
+        for name, tree in self.trees():
+            for node in ast.walk(tree):
+                if isinstance(node, ast.ClassDef):
+                    own = [inner.name for inner in node.body if isinstance(inner, ast.FunctionDef)]
+                    self.assertEqual(len(own), len(set(own)), (name, node.name))
+                    methods.update(own)
+                elif isinstance(node, ast.Attribute) and isinstance(node.ctx, ast.Store):
+                    attributes.add(node.attr)
+                elif isinstance(node, ast.Call) and isinstance(node.func, ast.Attribute):
+                    called.add(node.func.attr)
+        self.assertEqual(methods & attributes, set())
+        self.assertEqual(attributes & BARRED_ATTRIBUTES, set())
+        self.assertEqual(called - methods - BUILTIN_METHODS, set())
+
+    def test_no_two_files_import_from_each_other(self):
+        needs = {name: {node.module.split(".")[1] + ".py" for node in tree.body if isinstance(node, ast.ImportFrom)}
+                 for name, tree in self.trees()}
+        while needs:
+            leaves = [name for name in needs if not needs[name] & set(needs)]
+            self.assertTrue(leaves, needs)
+            needs = {name: needs[name] for name in needs if name not in leaves}
 
 
 if __name__ == "__main__":
