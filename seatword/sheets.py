@@ -3,6 +3,10 @@
 from seatword.kinds import is_rising, is_tuple, is_whole, is_within
 from seatword.rooms import is_name, stands_of, tables_of
 
+MOST_GUESTS = 60
+MOST_PARTIES = 8
+MOST_SHUTS = 12
+
 
 def is_span(hours, begin, stay):
     if not is_whole(begin) or not is_whole(stay):
@@ -18,11 +22,16 @@ def is_shut(tables, hours, thing):
     return is_tuple(thing, 3, 3) and thing[0] in tables and is_span(hours, thing[1], thing[2])
 
 
+def is_ask(hours, guests, begin, stay):
+    """Whether so many guests may ask for this span."""
+    return is_within(guests, 1, MOST_GUESTS) and is_span(hours, begin, stay)
+
+
 def is_party(hours, thing):
     if not is_tuple(thing, 4, 4):
         return False
     name, guests, begin, stay = thing
-    return is_name(name) and is_within(guests, 1, 60) and is_span(hours, begin, stay)
+    return is_name(name) and is_ask(hours, guests, begin, stay)
 
 
 def is_seat(names, stands, thing):
@@ -31,11 +40,11 @@ def is_seat(names, stands, thing):
 
 def are_shuts(room, hours, thing):
     tables = tables_of(room)
-    return is_tuple(thing, 0, 12) and all(is_shut(tables, hours, shut) for shut in thing)
+    return is_tuple(thing, 0, MOST_SHUTS) and all(is_shut(tables, hours, shut) for shut in thing)
 
 
 def are_parties(hours, thing):
-    if not is_tuple(thing, 0, 8) or not all(is_party(hours, party) for party in thing):
+    if not is_tuple(thing, 0, MOST_PARTIES) or not all(is_party(hours, party) for party in thing):
         return False
     return is_rising(names_in(thing))
 
@@ -102,6 +111,18 @@ def with_seat(sheet, name, stand):
 def with_party(sheet, party):
     hours, shuts, parties, seats = sheet
     return (hours, shuts, by_names(parties + (party,)), seats)
+
+
+def with_shut(sheet, shut):
+    hours, shuts, parties, seats = sheet
+    return (hours, shuts + (shut,), parties, seats)
+
+
+def with_stay(sheet, name, stay):
+    """The sheet in which this party has another stay."""
+    hours, shuts, parties, seats = sheet
+    changed = tuple(row[:3] + (stay,) if name_of(row) == name else row for row in parties)
+    return (hours, shuts, changed, seats)
 
 
 def without_party(sheet, name):

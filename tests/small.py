@@ -47,12 +47,19 @@ def clash(one, one_stand, other, other_stand):
 
 def dealings_of(room, sheet):
     """Every dealing of the sheet."""
-    parties = sheet[2]
-    choices = [stands_open_to(room, sheet, party[0]) for party in parties]
-    for stands in itertools.product(*choices):
-        pairs = itertools.combinations(list(zip(parties, stands)), 2)
-        if not any(clash(*one, *other) for one, other in pairs):
-            yield tuple((party[0], stand) for party, stand in zip(parties, stands))
+    choices = [(party, stands_open_to(room, sheet, party[0])) for party in sheet[2]]
+    yield from dealings_from((), choices)
+
+
+def dealings_from(dealt, choices):
+    """Every dealing that begins with those that are dealt, as (party, stand) each."""
+    if not choices:
+        yield tuple((party[0], stand) for party, stand in dealt)
+        return
+    party, stands = choices[0]
+    for stand in stands:
+        if not any(clash(party, stand, *other) for other in dealt):
+            yield from dealings_from(dealt + ((party, stand),), choices[1:])
 
 
 def moves_in(sheet, old, dealing):
@@ -203,3 +210,23 @@ def is_plain(thing):
 def fewest_in(room, sheet, old):
     """The fewest that any dealing moves, or None where there is none."""
     return min((moves_in(sheet, old, dealing) for dealing in dealings_of(room, sheet)), default=None)
+
+
+def fewest_by_steps(room, sheet, old):
+    """As fewest_in, but leaves those out that move no fewer than one that was found."""
+    choices = [(party, stands_open_to(room, sheet, party[0])) for party in sheet[2]]
+    return fewest_from((), choices, dict(old), 0, None)
+
+
+def fewest_from(dealt, choices, before, many, best):
+    if best is not None and many >= best:
+        return best
+    if not choices:
+        return many
+    party, stands = choices[0]
+    kept = before.get(party[0])
+    for stand in sorted(stands, key=lambda one: one != kept):
+        if not any(clash(party, stand, *other) for other in dealt):
+            more = many + (kept not in (None, stand))
+            best = fewest_from(dealt + ((party, stand),), choices[1:], before, more, best)
+    return best

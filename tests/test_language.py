@@ -15,9 +15,10 @@ BARRED_NAMES = {"register", "mro", "elements", "open", "input", "version_info", 
 USABLE = set("""len range enumerate zip min max sum abs sorted reversed int str bool bytes list tuple dict set
     frozenset isinstance ord repr any all divmod super Exception ValueError TypeError KeyError IndexError LookupError
     ZeroDivisionError ArithmeticError OverflowError RuntimeError NotImplementedError""".split())
-BUILTIN_METHODS = set("""append clear copy count endswith extend find get index insert isalnum isalpha isdigit islower
-    isspace isupper items join keys ljust lower lstrip partition pop remove replace reverse rfind rjust rpartition rsplit
-    rstrip setdefault split splitlines startswith strip update upper values zfill bit_length add discard""".split())
+BUILTIN_METHODS = set("""append clear copy count endswith extend find get index insert isalnum isalpha isdigit
+    islower isspace isupper items join keys ljust lower lstrip partition pop remove replace reverse rfind rjust
+    rpartition rsplit rstrip setdefault split splitlines startswith strip update upper values zfill bit_length add
+    discard""".split())
 BARRED_ATTRIBUTES = set("""items keys values pop update append clear extend insert remove reverse setdefault sort args
     encode decode hex fromhex format""".split())
 BARRED_NODES = (ast.Global, ast.AsyncFunctionDef, ast.AsyncFor, ast.AsyncWith, ast.Await, ast.Div)
