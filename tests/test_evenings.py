@@ -3,7 +3,7 @@
 import unittest
 
 from great import ALIKE, NAMES
-from model import Beside, shown
+from model import WORDS, Beside, shown
 from seatword import errors
 from seatword.asks import could_be, earliest_of, still_open
 from seatword.evenings import Evening
@@ -28,6 +28,10 @@ class Checks(unittest.TestCase):
 
 
 class First(Checks):
+    def test_each_method_stands_in_the_class_itself(self):
+        for word in list(WORDS) + ["now", "sheet", "dealing", "late", "waiting", "undo", "deeds"]:
+            self.assertIn(word, vars(Evening))
+
     def test_a_new_evening(self):
         for hours in (1, 5, 12):
             evening = Evening(ROOM, hours, 0)
