@@ -61,6 +61,9 @@ def is_shut_of(room, state, shut):
 def check_shut(room, state, shut):
     if not is_shut_of(room, state, shut) or shut[1] < state["now"]:
         raise NoAsk("table and hours are not such as can be shut")
+
+
+def check_shut_more(state):
     if len(state["sheet"][1]) >= MOST_SHUTS:
         raise Full("no more tables can be shut")
 

@@ -1,8 +1,8 @@
 """An evening: what is booked, who sits and who waits, hour by hour."""
 
 from seatword.checks import (check_ask, check_booked, check_hold, check_known, check_longer, check_new_name,
-                             check_party_more, check_shut, check_sitting, check_waiting, check_waiting_more,
-                             is_shut_of)
+                             check_party_more, check_shut, check_shut_more, check_sitting, check_waiting,
+                             check_waiting_more, is_shut_of)
 from seatword.dealings import moved_names
 from seatword.errors import Early, NoDeed, NoShut, Over
 from seatword.fewest import fewest_moved
@@ -72,6 +72,7 @@ class Evening:
     def shut(self, table, begin, stay):
         state = self.state()
         check_shut(self.room, state, (table, begin, stay))
+        check_shut_more(state)
         return self.settle(state, with_shut(state["sheet"], (table, begin, stay)), state["dealing"])
 
     def unshut(self, table, begin, stay):

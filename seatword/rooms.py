@@ -5,11 +5,14 @@ from seatword.kinds import is_tuple, is_within
 LETTERS = "abcdefghijklmnopqrstuvwxyz"
 
 
-def is_name(thing):
-    if not isinstance(thing, str) or not 1 <= len(thing) <= 8:
-        return False
+def is_word(text):
+    """Whether it is one or more small letters."""
     # Python's own islower lets other signs in.
-    return all(sign in LETTERS for sign in thing)
+    return len(text) >= 1 and all(sign in LETTERS for sign in text)
+
+
+def is_name(thing):
+    return isinstance(thing, str) and len(thing) <= 8 and is_word(thing)
 
 
 def is_table(thing):
@@ -20,11 +23,15 @@ def is_row(thing):
     return is_tuple(thing, 1, 6) and all(is_table(table) for table in thing)
 
 
+def is_lost(thing):
+    return is_within(thing, 0, 4)
+
+
 def is_room(thing):
     if not is_tuple(thing, 2, 2):
         return False
     rows, lost = thing
-    if not is_within(lost, 0, 4) or not is_tuple(rows, 1, 4):
+    if not is_lost(lost) or not is_tuple(rows, 1, 4):
         return False
     if not all(is_row(row) for row in rows):
         return False

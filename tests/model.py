@@ -188,16 +188,28 @@ class Model:
         return (gone, lapsed)
 
 
+def tell(evening, deed):
+    """What is told, or the class of the refusal and its fields."""
+    try:
+        return getattr(evening, deed[0])(*deed[1:])
+    except errors.SeatError as refused:
+        return refusal_of(refused)
+
+
+def refusal_of(refused):
+    return (type(refused).__name__, sorted(vars(refused).items()))
+
+
 def shown(evening):
     return (evening.now(), evening.sheet(), evening.dealing(), evening.late(), evening.waiting(), evening.deeds())
 
 
 class Beside:
-    """An evening and a model of it, told the same; fails the test where they differ."""
+    """An evening, or what is told as one, and a model of it, told the same; fails the test where they differ."""
 
-    def __init__(self, test, room, hours, grace):
+    def __init__(self, test, room, hours, grace, evening=None):
         self.test = test
-        self.evening = Evening(room, hours, grace)
+        self.evening = evening or Evening(room, hours, grace)
         self.model = Model(room, hours, grace)
         # For each deed that stands the model and what was shown ahead of it.
         self.ahead = []

@@ -3,31 +3,15 @@
 import random
 import unittest
 
+from chances import DEEDS, PAIR, some_deed
 from great import ALIKE, NAMES, great_room
-from model import ASKS, WORDS, Beside, shown
-from seatword.errors import NoDeed, SeatError
+from model import ASKS, WORDS, Beside, shown, tell
+from seatword.errors import NoDeed
 from seatword.evenings import Evening
 from small import some_room
-from things import ANYTHING
 
 # Stands and their places: a 4, b 2, c 6, d 4, a b 5, b c 7, a b c 10.
 ROOM = (((("a", 4), ("b", 2), ("c", 6)), (("d", 4),)), 1)
-PAIR = (((("a", 2), ("b", 4)),), 4)
-
-# An evening in which each word is a deed at least once.
-DEEDS = [("shut", "a", 0, 1), ("book", "anna", 2, 0, 3), ("unshut", "a", 0, 1), ("book", "bob", 4, 0, 2),
-         ("change", "anna", 1, 0, 4), ("hold", "anna", 2), ("come", "bob"), ("wait", "carl", 4, 1),
-         ("wait", "dora", 2, 2), ("leave", "bob"), ("call",), ("give_up", "dora"), ("go_on",), ("walk", "emil", 4, 1),
-         ("longer", "emil", 1), ("shut", "b", 3, 1), ("go_on",), ("cancel", "anna"), ("book", "anna", 1, 3, 1),
-         ("go_on",)]
-
-
-def tell(evening, deed):
-    """What is told, or the class of the refusal and its fields."""
-    try:
-        return getattr(evening, deed[0])(*deed[1:])
-    except SeatError as refused:
-        return (type(refused).__name__, sorted(vars(refused).items()))
 
 
 class Undo(unittest.TestCase):
@@ -146,46 +130,13 @@ class Undo(unittest.TestCase):
 class Chances(unittest.TestCase):
     """Deeds of all sorts, most of them such as may be done, told an evening and its model."""
 
-    def things(self, chance, model, word):
-        names = NAMES + ["ida", "kai", "yves", "zoe"]
-        known = sorted(model.parties) or names
-        line = [row[0] for row in model.line] or names
-        tables = model.tables()
-        guests = chance.choice((1, 1, 2, 2, 3, 4, 5, 7))
-        begin = min(chance.randint(model.now, model.now + 3), model.hours - 1)
-        stay = chance.randint(1, max(1, min(4, model.hours - begin)))
-        walk_stay = chance.randint(1, max(1, min(4, model.hours - model.now)))
-        shut = (chance.choice(tables), begin, stay)
-        return {"book": (chance.choice(names), guests, begin, stay),
-                "change": (chance.choice(known), guests, begin, stay),
-                "shut": shut, "unshut": chance.choice(model.shuts) if model.shuts else shut,
-                "walk": (chance.choice(names), guests, walk_stay),
-                "longer": (chance.choice(known), chance.randint(1, 2)),
-                "hold": (chance.choice(known), chance.randint(1, 3)), "give_up": (chance.choice(line),),
-                "wait": (chance.choice(names), guests, walk_stay), "call": (), "go_on": ()
-                }.get(word, (chance.choice(known),))
-
-    def spoil(self, chance, things):
-        """One of the things, or two, otherwise."""
-        spoilt = list(things)
-        for step in range(chance.randint(1, 2)):
-            spoilt[chance.randrange(len(things))] = chance.choice(ANYTHING + [3, 11, 12, 13, 61, "zoe", "c", "bob"])
-        return tuple(spoilt)
-
     def live(self, chance, room, hours, deeds, counts):
         beside = Beside(self, room, hours, chance.choice((0, 1, 2, 12)))
-        words = list(WORDS) + ["book"] * 6 + ["come"] * 3 + ["walk", "change", "shut", "wait", "call", "longer"]
         for step in range(deeds):
             if chance.random() < 0.12:
                 beside.undo()
-                continue
-            word = chance.choice(words)
-            if word == "go_on" and chance.random() < 0.5:
-                continue
-            things = self.things(chance, beside.model, word)
-            if things and chance.random() < 0.15:
-                things = self.spoil(chance, things)
-            beside.tell(word, *things)
+            else:
+                beside.tell(*some_deed(chance, beside.model))
         while beside.ahead:
             beside.undo()
         for key, many in beside.counts.items():
