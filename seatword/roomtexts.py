@@ -69,7 +69,7 @@ def with_row(sheet, row):
     word, *texts = row.split(" ")
     things = read_things(texts)
     hours, shuts, parties, seats = sheet
-    if word == "shut" and not parties and not seats:
+    if word == "shut" and not parties:
         return (hours, (*shuts, things), parties, seats)
     if word == "party" and not seats:
         return (hours, shuts, (*parties, things), seats)

@@ -1,7 +1,8 @@
-"""How points [33] and [34] have texts, by patterns, without the program; and texts with some sign or row otherwise."""
+"""How points [33] to [35] have texts, by patterns, without the program; and texts with some sign or row otherwise."""
 
 import re
 
+from model import WORDS
 from small import stands_in
 
 NAME = "[a-z]{1,8}"
@@ -80,6 +81,32 @@ def sheet_fault(room, text):
         if word == "seat" and match[1] not in found["party"]:
             return at
     return None
+
+
+def order_text(order):
+    text = order[0]
+    for thing in order[1:]:
+        text += " " + (thing if type(thing) is str else str(thing))
+    return text
+
+
+def is_order_text(text):
+    """Whether it is written so, by patterns."""
+    for word, many in WORDS.items():
+        if re.fullmatch("%s(?: (?:[a-z]+|%s)){%d}" % (word, NUMBER, many), text):
+            return True
+    return False
+
+
+def log_text(log):
+    """The text of a told log, row by row."""
+    rows = []
+    for deed in log:
+        if deed[0] == "close":
+            rows.append("close %s %d %d %d %d" % deed[1:])
+        else:
+            rows.append(str(deed[0]) + " " + order_text(deed[1]))
+    return "\n".join(rows)
 
 
 def otherwise(chance, text, words):
