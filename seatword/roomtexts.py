@@ -69,6 +69,7 @@ def with_row(sheet, row):
     word, *texts = row.split(" ")
     things = read_things(texts)
     hours, shuts, parties, seats = sheet
+    # Where there are seats there are parties, too.
     if word == "shut" and not parties:
         return (hours, (*shuts, things), parties, seats)
     if word == "party" and not seats:
